@@ -35,7 +35,7 @@ type call struct {
 	do   func(f face) (any, api.Errno)
 }
 
-// calls one on both: the answers are the same, and nothing comes with an error.
+// call calls one on both: the answers are the same, and nothing comes with an error.
 func (b *both) call(c call) {
 	b.t.Helper()
 	got, errno := c.do(b.x)
@@ -48,7 +48,7 @@ func (b *both) call(c call) {
 	}
 }
 
-// calls several, and looks at everything behind each.
+// calls calls several, and looks at everything behind each.
 func (b *both) calls(l ...call) {
 	b.t.Helper()
 	for _, c := range l {
@@ -57,10 +57,14 @@ func (b *both) calls(l ...call) {
 	}
 }
 
-// reopens the table; the records must belong together.
+// reopen opens the table anew; the records must belong together. No page has leaked: the pager had as many free as one that goes over all pages finds.
 func (b *both) reopen() {
 	b.t.Helper()
+	free, held := b.x.Pager().Free(), b.x.Pager().Held()
 	b.x = wantStands(b.t, "opened anew", b.d, b.p.stands, b.noted())
+	if b.x.Pager().Free() != free+held {
+		b.t.Fatalf("free were %d, and are %d", free, b.x.Pager().Free())
+	}
 	b.p = newPlain(b.p.stands, b.noted())
 	wantHas(b.t, "opened anew", b.x, b.p)
 }
@@ -76,7 +80,7 @@ func (b *both) noted() int {
 	return n
 }
 
-// wantErrnos is that a call answers so.
+// wantCall is that a call answers so.
 func wantCall(t *testing.T, f face, c call, value any, errno api.Errno) {
 	t.Helper()
 	if got, e := c.do(f); e != errno || errno == api.OK && !same(got, value) || errno != api.OK && got != nil && !isNothing(got) {

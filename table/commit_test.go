@@ -141,6 +141,26 @@ func TestCommitFullByPin(t *testing.T) {
 	b.reopen()
 }
 
+// B4 to B10: no page is free: all is asked and begun as ever, and a commit that writes no page needs none.
+func TestNoPageFree(t *testing.T) {
+	pages := len(reached(t, built(t, 64, home(), homeTime)))
+	b := bothOf(t, 2+pages, home(), homeTime)
+	if b.x.Pager().Free() != 0 {
+		t.Fatalf("the test is wrong: %d are free", b.x.Pager().Free())
+	}
+	b.calls(commit())
+	for _, c := range asking() {
+		if c.what != commit().what {
+			b.call(c)
+		}
+	}
+	wantHas(t, "what was begun", b.x, b.p)
+	wantActs(t, b.d, b.x, api.ErrPagerFull, 0)
+	wantHas(t, "what was begun", b.x, b.p)
+	b.calls(abort(), nextID(), commit())
+	b.reopen()
+}
+
 // B10: no generation is left: nothing is changed, and all that was begun is there still.
 func TestCommitWorn(t *testing.T) {
 	b := bothAtHome(t)
