@@ -330,7 +330,7 @@ func TestNoteOnAFullDisk(t *testing.T) {
 	}
 }
 
-// Of tables whose events are not as the chain says nothing is promised but that each call ends.
+// Of tables whose events are not as the chain says nothing is promised but that each call ends; yet an error leaves them as they were.
 func TestNoteOnBrokenTrails(t *testing.T) {
 	for _, base := range []int{0, 1, 40, lastID - 40, lastID - 33, lastID - 32, lastID} {
 		for _, span := range []int{1, 2, 32, 33} {
@@ -343,10 +343,12 @@ func TestNoteOnBrokenTrails(t *testing.T) {
 					x.PutEvent(some(n))
 				}
 				for range 3 {
-					if n, errno := trail.Note(x, api.EventKey, 0, ""); errno != api.OK && n != 0 {
-						t.Fatalf("%d beside %d", n, errno)
+					was, stood, _ := trail.Read(x)
+					n, errno := trail.Note(x, api.EventKey, 0, "")
+					is, l, _ := trail.Read(x)
+					if errno != api.OK && (n != 0 || is != was || !slices.Equal(l, stood)) {
+						t.Fatalf("%d beside %d; %x, %v; want %x, %v", n, errno, is, l, was, stood)
 					}
-					trail.Read(x)
 				}
 			}
 		}
